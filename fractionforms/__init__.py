@@ -1,0 +1,1 @@
+"""Fractions in every form: read, written, compared and reckoned with."""
