@@ -1,10 +1,16 @@
 """The desk: answers a list of calls on eight places that hold a fraction each."""
 
-from fractionforms.near import beginnings, best_up_to, continued_terms
+from fractionforms.expansions import ends_in, lengths_of
+from fractionforms.near import beginnings, best_up_to, continued_terms, neighbours, rank_of, records_up_to, row_of
+from fractionforms.near import simplest_between
+from fractionforms.numbering import number_of, ratio_numbered
 from fractionforms.order import lesser_text
-from fractionforms.parse import parsed
-from fractionforms.ratio import Ratio, difference, has_digits, lesser, product, quotient, raised, total
-from fractionforms.refusals import DividedByZero, NotBytes, NotTheWrittenOne, OutOfRange, Refusal, TooManyDigits
+from fractionforms.parse import parsed, parsed_number
+from fractionforms.parts import fewest_parts
+from fractionforms.ratio import Ratio, difference, has_digits, lesser, mediant_of, product, quotient, raised, total
+from fractionforms.ratio import whole_part
+from fractionforms.refusals import DividedByZero, NoSuchPlace, NotBytes, NothingBetween, NotTheWrittenOne, OutOfRange
+from fractionforms.refusals import Refusal, TooManyDigits
 from fractionforms.worth import worth
 from fractionforms.writing import is_written, written
 
@@ -13,6 +19,19 @@ PLAIN = 0
 NO_BASE = 10
 SMALL_ENOUGH = 300
 SMALL_FOR_LISTS = 20
+
+# The least and the greatest that a whole number of a call may be, by what it is.
+RANGES = {
+    "place": (0, 7),
+    "form": (0, 8),
+    "base": (2, 36),
+    "n": (1, 500),
+    "times": (0, 40),
+    "row": (1, 40),
+    "r": (0, 1000),
+    "m": (0, 4),
+    "h": (1, 60),
+}
 
 
 class Desk:
@@ -34,8 +53,19 @@ def small(ratio):
     return ratio
 
 
+def short(ratio):
+    """The same fraction, if its numbers are short enough for a list of fractions."""
+    if not has_digits(ratio, SMALL_FOR_LISTS):
+        raise TooManyDigits()
+    return ratio
+
+
 def plain_text(ratio):
     return written(PLAIN, NO_BASE, ratio)
+
+
+def whole_text(value):
+    return plain_text(Ratio(value, 1))
 
 
 def counted(ratios):
@@ -112,23 +142,70 @@ def power(desk, numbers, texts):
 
 
 def convergents(desk, numbers, texts):
-    ratio = desk.places[numbers[0]]
-    if not has_digits(ratio, SMALL_FOR_LISTS):
-        raise TooManyDigits()
-    return counted(beginnings(continued_terms(ratio)))
+    return counted(beginnings(continued_terms(short(desk.places[numbers[0]]))))
 
 
 def best(desk, numbers, texts):
     return desk.keep(numbers[2], best_up_to(desk.places[numbers[0]], numbers[1]))
 
 
-RANGES = {
-    "place": (0, 7),
-    "form": (0, 8),
-    "base": (2, 36),
-    "n": (1, 500),
-    "times": (0, 40),
-}
+def records(desk, numbers, texts):
+    return counted(records_up_to(short(desk.places[numbers[0]]), numbers[1]))
+
+
+def beside(desk, numbers, texts):
+    return counted(neighbours(short(desk.places[numbers[0]]), numbers[1]))
+
+
+def rank(desk, numbers, texts):
+    return [rank_of(desk.places[numbers[0]], numbers[1])]
+
+
+def ranked(desk, numbers, texts):
+    row = row_of(numbers[0])
+    if numbers[1] >= len(row):
+        raise NoSuchPlace()
+    return desk.keep(numbers[2], row[numbers[1]])
+
+
+def simplest(desk, numbers, texts):
+    low = desk.places[numbers[0]]
+    high = desk.places[numbers[1]]
+    if lesser(high, low) == 1:
+        raise NothingBetween()
+    return desk.keep(numbers[2], simplest_between(low, high))
+
+
+def numbered(desk, numbers, texts):
+    return desk.keep(numbers[0], ratio_numbered(parsed_number(texts[0])))
+
+
+def number(desk, numbers, texts):
+    return [0] + whole_text(number_of(desk.places[numbers[0]]))
+
+
+def lengths(desk, numbers, texts):
+    return lengths_of(desk.places[numbers[0]].below, numbers[1])
+
+
+def ends(desk, numbers, texts):
+    below = desk.places[numbers[0]].below
+    limits = RANGES["base"]
+    return [0] + [base for base in range(limits[0], limits[1] + 1) if ends_in(below, base)]
+
+
+def fewest(desk, numbers, texts):
+    parts = fewest_parts(desk.places[numbers[0]], numbers[1], numbers[2])
+    return [len(parts)] + parts
+
+
+def mediant(desk, numbers, texts):
+    return desk.keep(numbers[2], mediant_of(desk.places[numbers[0]], desk.places[numbers[1]]))
+
+
+def floor(desk, numbers, texts):
+    return [0] + whole_text(whole_part(desk.places[numbers[0]]))
+
 
 # Of each call: what its whole numbers are, how many texts it has, and what answers it.
 CALLS = {
@@ -145,13 +222,25 @@ CALLS = {
     10: (("place", "times", "place"), 0, power),
     11: (("place",), 0, convergents),
     12: (("place", "n", "place"), 0, best),
+    13: (("place", "n"), 0, records),
+    14: (("place", "n"), 0, beside),
+    15: (("place", "row"), 0, rank),
+    16: (("row", "r", "place"), 0, ranked),
+    17: (("place", "place", "place"), 0, simplest),
+    18: (("place",), 1, numbered),
+    19: (("place",), 0, number),
+    20: (("place", "base"), 0, lengths),
+    21: (("place",), 0, ends),
+    22: (("place", "m", "h"), 0, fewest),
+    23: (("place", "place", "place"), 0, mediant),
+    24: (("place",), 0, floor),
 }
 
 
 def check_numbers(names, numbers):
     """Every whole number must be in its range."""
-    for name, number in zip(names, numbers):
-        if not RANGES[name][0] <= number <= RANGES[name][1]:
+    for name, value in zip(names, numbers):
+        if not RANGES[name][0] <= value <= RANGES[name][1]:
             raise OutOfRange()
 
 

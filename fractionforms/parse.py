@@ -1,6 +1,7 @@
 """From a text to its terms: the numbers that stand in it, form by form."""
 
 from fractionforms.reader import Reader
+from fractionforms.refusals import Fault, NotANumber
 
 
 def parse_plain(reader, base):
@@ -95,3 +96,14 @@ def parsed(form, base, codes):
     terms = PARSERS[form](reader, base)
     reader.ends()
     return terms
+
+
+def parsed_number(codes):
+    """The number of at least 1 that is the whole text."""
+    reader = Reader(codes)
+    try:
+        found = reader.number(1)
+        reader.ends()
+    except Fault:
+        raise NotANumber() from None
+    return found

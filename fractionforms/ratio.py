@@ -52,6 +52,16 @@ def quotient(first, second):
     return lowest(first.above * second.below, first.below * second.above)
 
 
+def mediant_of(first, second):
+    """The upper numbers added, over the lower ones added."""
+    return lowest(first.above + second.above, first.below + second.below)
+
+
+def whole_part(ratio):
+    """The greatest whole number that isn't above a fraction."""
+    return ratio.above // ratio.below
+
+
 def raised(ratio, times):
     """A fraction so many times multiplied."""
     # Powers of two numbers with nothing in common have nothing in common.

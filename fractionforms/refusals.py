@@ -29,6 +29,13 @@ class Fault(Refusal):
         Refusal.__init__(self, -1000 - place)
 
 
+class NotANumber(Refusal):
+    """A text is no number of at least 1."""
+
+    def __init__(self):
+        Refusal.__init__(self, -4)
+
+
 class DividedByZero(Refusal):
     """There is no quotient."""
 
@@ -37,7 +44,14 @@ class DividedByZero(Refusal):
 
 
 class NotAboveZero(Refusal):
-    """A road leads to fractions above 0 alone."""
+    """Roads and numbers lead to fractions above 0 alone."""
+
+    def __init__(self):
+        Refusal.__init__(self, -6)
+
+
+class BelowZero(Refusal):
+    """Unit parts never come to less than 0 together."""
 
     def __init__(self):
         Refusal.__init__(self, -6)
@@ -45,6 +59,27 @@ class NotAboveZero(Refusal):
 
 class NotTheWrittenOne(Refusal):
     """A text is another than what is written of its fraction."""
+
+    def __init__(self):
+        Refusal.__init__(self, -7)
+
+
+class NoSuchPlace(Refusal):
+    """A row of fractions is too short for a place."""
+
+    def __init__(self):
+        Refusal.__init__(self, -7)
+
+
+class NothingBetween(Refusal):
+    """The end that should be the greater one is less."""
+
+    def __init__(self):
+        Refusal.__init__(self, -7)
+
+
+class NoSuchParts(Refusal):
+    """No list of unit parts comes to a fraction."""
 
     def __init__(self):
         Refusal.__init__(self, -7)
@@ -59,6 +94,20 @@ class TooManyDigits(Refusal):
 
 class NoText(Refusal):
     """A fraction has no text in a form."""
+
+    def __init__(self):
+        Refusal.__init__(self, -8)
+
+
+class TooGreatANumber(Refusal):
+    """A fraction comes too late in the numbering."""
+
+    def __init__(self):
+        Refusal.__init__(self, -8)
+
+
+class TooManyRepeat(Refusal):
+    """An expansion's brackets are too long."""
 
     def __init__(self):
         Refusal.__init__(self, -8)

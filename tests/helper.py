@@ -15,6 +15,7 @@ GREATEST = 9223372036854775807
 FORMS = range(9)
 MOST_CALLS = 400
 MOST_NUMBERS = 16000
+MOST_LISTS = 40
 DIGITS = "0123456789abcdefghijklmnopqrstuvwxyz"
 
 
@@ -79,6 +80,67 @@ def best(i, n, k):
     return [12, i, n, k]
 
 
+def records(i, n):
+    return [13, i, n]
+
+
+def beside(i, n):
+    return [14, i, n]
+
+
+def rank(i, n):
+    return [15, i, n]
+
+
+def ranked(n, r, k):
+    return [16, n, r, k]
+
+
+def simplest(i, j, k):
+    return [17, i, j, k]
+
+
+def numbered(k, text):
+    return [18, k] + row(text)
+
+
+def number(i):
+    return [19, i]
+
+
+def lengths(i, base):
+    return [20, i, base]
+
+
+def ends(i):
+    return [21, i]
+
+
+def fewest(i, m, h):
+    return [22, i, m, h]
+
+
+def mediant(i, j, k):
+    return [23, i, j, k]
+
+
+def floor(i):
+    return [24, i]
+
+
+def keeping(*values):
+    """Calls that keep fractions in the places from 0 on."""
+    return [read(place, 0, 10, plain(value)) for place, value in enumerate(values)]
+
+
+def listed(values):
+    """The answer that tells fractions one behind another, each with its length."""
+    answer = [len(values)]
+    for value in values:
+        answer += row(plain(value))
+    return answer
+
+
 def split(told):
     """The answers one by one, from the list that the desk gives back."""
     parts = []
@@ -104,7 +166,8 @@ def ask_groups(groups):
     waiting = []
     for group in groups:
         calls = [call for one in waiting for call in one] + group
-        if len(calls) > MOST_CALLS or sum(map(len, calls)) > MOST_NUMBERS:
+        lists = sum(call[0] in (11, 13) for call in calls)
+        if len(calls) > MOST_CALLS or sum(map(len, calls)) > MOST_NUMBERS or lists > MOST_LISTS:
             told.extend(ask_together(waiting))
             waiting = []
         waiting.append(group)

@@ -3,13 +3,17 @@
 import copy
 import subprocess
 import sys
+import time
 import unittest
+from fractions import Fraction
 from pathlib import Path
 
 import helper
 from fractionforms.desk import answers
 
 NINES = "9" * 300
+# Seconds that a person would wait for a whole list.
+PATIENCE = 20
 TOP = Path(__file__).resolve().parent.parent
 
 
@@ -20,7 +24,10 @@ def mixed_calls():
         helper.convert(1, 2, 6, 10, "0.1(01)"), helper.canonical(2, 10, "1;1"), helper.compare(0, 1),
         helper.within(1, 10, "0.(3)", "0.34"), helper.add(0, 1, 2), helper.sub(0, 1, 3), helper.mul(0, 1, 4),
         helper.div(0, 1, 5), helper.power(1, 3, 6), helper.convergents(0), helper.best(0, 5, 7), helper.div(0, 8, 1),
-        helper.read(0, 0, 10, "x"), helper.read(0, 0, 10, [256]), helper.write(2, 5, 10),
+        helper.read(0, 0, 10, "x"), helper.read(0, 0, 10, [256]), helper.write(2, 5, 10), helper.records(0, 9),
+        helper.beside(0, 9), helper.rank(1, 9), helper.ranked(9, 4, 2), helper.simplest(1, 0, 3), helper.simplest(0, 1, 3),
+        helper.numbered(4, "1000"), helper.numbered(4, "01"), helper.number(4), helper.lengths(0, 10), helper.ends(1),
+        helper.fewest(1, 4, 60), helper.fewest(0, 4, 60), helper.mediant(0, 1, 5), helper.floor(0),
     ]
 
 
@@ -43,6 +50,19 @@ class Lists(unittest.TestCase):
         self.assertEqual(answers([11, 4]), [3, 1, 1, 48])
         self.assertEqual(answers([12, 0, 500, 0]), [2, 0, 48])
         self.assertEqual(answers([0, 0, 0, 10, 0, 4, 0, 0]), [1, -1000, 1, 0])
+        self.assertEqual(answers([13, 0, 1]), [3, 1, 1, 48])
+        self.assertEqual(answers([14, 7, 1]), [6, 2, 2, 45, 49, 1, 49])
+        self.assertEqual(answers([15, 0, 40]), [1, 1])
+        self.assertEqual(answers([16, 2, 1, 3, 24, 3]), [4, 0, 49, 47, 50, 2, 0, 48])
+        self.assertEqual(answers([17, 0, 1, 2]), [2, 0, 48])
+        self.assertEqual(answers([18, 5, 1, 50, 19, 5]), [4, 0, 49, 47, 50, 2, 0, 50])
+        self.assertEqual(answers([18, 5, 0, 19, 5]), [1, -4, 1, -6])
+        self.assertEqual(answers([20, 0, 2]), [2, 0, 0])
+        self.assertEqual(answers([21, 0]), [36, 0] + list(range(2, 37)))
+        self.assertEqual(answers([22, 0, 0, 1]), [1, 0])
+        self.assertEqual(answers([16, 3, 3, 0, 22, 0, 2, 6]), [4, 0, 50, 47, 51, 3, 2, 2, 6])
+        self.assertEqual(answers([23, 0, 1, 2]), [2, 0, 48])
+        self.assertEqual(answers([24, 0]), [2, 0, 48])
 
     def test_it_gives_back_a_list_of_whole_numbers(self):
         told = answers(flat(mixed_calls()))
@@ -104,6 +124,54 @@ class LongLists(unittest.TestCase):
                      helper.write(1, 7, 10), helper.write(1, 8, 10)):
             told = helper.ask(kept, third, *[call] * 398)
             self.assertEqual(told[2:], [told[2]] * 398)
+
+    def check_patience(self, values, call, many):
+        """So many calls of one kind behind what they need, each answered alike, in time."""
+        start = time.monotonic()
+        told = helper.ask(*helper.keeping(*values), *[call] * many)
+        self.assertLess(time.monotonic() - start, PATIENCE, call)
+        self.assertEqual(told[:len(values)], [helper.done(helper.plain(value)) for value in values])
+        self.assertEqual(told[len(values):], [told[-1]] * many)
+        return told[-1]
+
+    def test_four_hundred_calls_that_look_for_what_is_near(self):
+        great = 10 ** 300 - 1
+        first, second = 1, 1
+        while first + second < great:
+            first, second = second, first + second
+        steep = Fraction(first, second)
+        nearly = Fraction(second - first, first)
+        self.assertEqual(self.check_patience([steep], helper.simplest(0, 0, 1), 399), helper.done(helper.plain(steep)))
+        simplest = self.check_patience(sorted([steep, nearly]), helper.simplest(0, 1, 2), 398)
+        self.assertEqual(simplest, helper.done(helper.plain(nearly)))
+        long_one = Fraction(10 ** 20 - 1, 10 ** 20 - 3)
+        self.check_patience([long_one], helper.records(0, 500), 40)
+        self.check_patience([Fraction(6765, 10946)], helper.records(0, 500), 40)
+        self.check_patience([long_one], helper.beside(0, 500), 399)
+        self.assertEqual(self.check_patience([Fraction(great - 1, great)], helper.rank(0, 40), 399), [490])
+        self.assertEqual(self.check_patience([], helper.ranked(40, 490, 0), 400), helper.done("1"))
+        self.check_patience([steep, Fraction(1, great)], helper.mediant(0, 1, 2), 398)
+        self.check_patience([Fraction(-great, 2)], helper.floor(0), 399)
+
+    def test_four_hundred_calls_that_number(self):
+        great = 10 ** 300 - 1
+        many = helper.MOST_NUMBERS // len(helper.numbered(0, NINES))
+        self.check_patience([], helper.numbered(0, NINES), many)
+        self.check_patience([], helper.numbered(0, "9" * 37), 400)
+        for value, refused in ((901, False), (Fraction(1, 901), False), (Fraction(great, great - 1), True), (great, True)):
+            self.assertEqual(self.check_patience([value], helper.number(0), 399) == [-8], refused)
+
+    def test_four_hundred_expansions(self):
+        great = 10 ** 300 - 1
+        for below in (great, great - 1, 2 ** 996, 3 ** 628, 30 ** 203):
+            for base in (2, 7, 10, 30, 36):
+                self.check_patience([Fraction(1, below)], helper.lengths(0, base), 399)
+            self.check_patience([Fraction(1, below)], helper.ends(0), 399)
+
+    def test_four_hundred_lists_of_parts(self):
+        great = 10 ** 300 - 1
+        for value in (Fraction(36, 427), Fraction(5, 59), Fraction(great // 12, great - 1), Fraction(great - 1, great)):
+            self.assertEqual(self.check_patience([value], helper.fewest(0, 4, 60), 399), [-7])
 
     def test_sixteen_thousand_numbers(self):
         text = NINES + "/" + NINES

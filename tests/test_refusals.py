@@ -1,4 +1,4 @@
-"""Each refusal of the calls 0 to 12, the order among them, and that a refusal changes nothing."""
+"""Each refusal of each call, the order among them, and that a refusal changes nothing."""
 
 import unittest
 from fractions import Fraction
@@ -10,6 +10,10 @@ FORM = (0, 8)
 BASE = (2, 36)
 SIZE = (1, 500)
 TIMES = (0, 40)
+ROW = (1, 40)
+RANK = (0, 1000)
+PARTS = (0, 4)
+HIGHEST = (1, 60)
 
 # Of each call: its number, its whole numbers' ranges, how many texts it has.
 SHAPES = (
@@ -26,6 +30,18 @@ SHAPES = (
     (10, (PLACE, TIMES, PLACE), 0),
     (11, (PLACE,), 0),
     (12, (PLACE, SIZE, PLACE), 0),
+    (13, (PLACE, SIZE), 0),
+    (14, (PLACE, SIZE), 0),
+    (15, (PLACE, ROW), 0),
+    (16, (ROW, RANK, PLACE), 0),
+    (17, (PLACE, PLACE, PLACE), 0),
+    (18, (PLACE,), 1),
+    (19, (PLACE,), 0),
+    (20, (PLACE, BASE), 0),
+    (21, (PLACE,), 0),
+    (22, (PLACE, PARTS, HIGHEST), 0),
+    (23, (PLACE, PLACE, PLACE), 0),
+    (24, (PLACE,), 0),
 )
 NINES = "9" * 300
 NO_BYTES = (helper.LEAST, -1000, -1, 256, 48 + 256, 10 ** 6, helper.GREATEST)
@@ -83,13 +99,15 @@ class NotBytes(unittest.TestCase):
                 told = helper.ask(
                     helper.read(0, 0, 10, text), helper.convert(0, 10, 0, 10, text), helper.canonical(0, 10, text),
                     helper.within(0, 10, text, "1"), helper.within(0, 10, "1", text), helper.within(0, 10, "", text),
+                    helper.numbered(0, text),
                 )
-                self.assertEqual(told, [[-1]] * 6)
+                self.assertEqual(told, [[-1]] * 7)
 
     def test_edges_are_bytes(self):
         for form in helper.FORMS:
             for code in (0, 255):
                 self.assertEqual(helper.ask(helper.read(0, form, 36, [code])), [[-1000]])
+                self.assertEqual(helper.ask(helper.numbered(0, [code])), [[-4]])
 
 
 class Others(unittest.TestCase):
@@ -166,6 +184,39 @@ class Others(unittest.TestCase):
         told = helper.ask(helper.read(0, 0, 10, "1" + "0" * 20), helper.convergents(0), helper.convergents(1))
         self.assertEqual(told[1:], [[-8], [1, 1, 48]])
 
+    def test_numbers_of_twenty_digits(self):
+        """Either number may be too long for lists of fractions, whatever n is."""
+        great = 10 ** 20
+        for value, fits in (
+            (great - 1, True), (1 - great, True), (Fraction(1, great - 1), True), (Fraction(great - 1, great - 2), True),
+            (great, False), (-great, False), (Fraction(1, great), False), (Fraction(-great - 1, great), False),
+            (Fraction(great + 1, 2), False), (Fraction(2, great + 1), False), (10 ** 300 - 1, False),
+        ):
+            for most in (1, 500):
+                told = helper.ask(*helper.keeping(value), helper.convergents(0), helper.records(0, most), helper.beside(0, most))
+                self.assertEqual([answer == [-8] for answer in told[1:]], [not fits] * 3, (value, most))
+
+    def test_of_one_place(self):
+        told = helper.ask(
+            *helper.keeping(-1, 0, Fraction(1, 2), 902, Fraction(-1, 3), Fraction(1, 3 ** 10), Fraction(1, 61)),
+            helper.number(0), helper.number(1), helper.number(2), helper.number(3), helper.number(4), helper.lengths(5, 2),
+            helper.fewest(0, 4, 60), helper.fewest(1, 4, 60), helper.fewest(4, 0, 1), helper.fewest(6, 4, 60),
+        )
+        self.assertEqual(told[7:], [[-6], [-6], helper.done("2"), [-8], [-6], [-8], [-6], [0], [-6], [-7]])
+
+    def test_of_two_places(self):
+        told = helper.ask(
+            *helper.keeping(-1, 0, Fraction(1, 2), Fraction(10 ** 300 - 1, 2), 2), helper.simplest(1, 0, 5),
+            helper.simplest(2, 0, 5), helper.simplest(2, 1, 5), helper.simplest(0, 2, 5), helper.mediant(3, 4, 5),
+            helper.write(5, 0, 10),
+        )
+        self.assertEqual(told[5:], [[-7], [-7], [-7], helper.done("0"), [-8], helper.done("0")])
+
+    def test_ranked(self):
+        told = helper.ask(helper.ranked(1, 1, 0), helper.ranked(1, 2, 0), helper.ranked(40, 490, 0), helper.ranked(40, 491, 0),
+                          helper.ranked(40, 1000, 0), helper.ranked(1, 1000, 0), helper.ranked(2, 3, 0))
+        self.assertEqual(told, [helper.done("1"), [-7], helper.done("1"), [-7], [-7], [-7], [-7]])
+
 
 class InOrder(unittest.TestCase):
     def test_from_the_first_to_the_last(self):
@@ -188,6 +239,22 @@ class InOrder(unittest.TestCase):
                                 [-3], [-5]])
 
 
+    def test_of_places_and_what_they_hold(self):
+        """Each call is refused for its whole numbers before it's looked at what a place holds."""
+        keep = helper.keeping(-10 ** 20, 1, 0, Fraction(1, 3 ** 10))
+        for call, refusal in (
+            (helper.records(0, 0), -3), (helper.records(0, 501), -3), (helper.records(8, 1), -3), (helper.records(0, 1), -8),
+            (helper.beside(0, 0), -3), (helper.beside(0, 501), -3), (helper.beside(0, 500), -8), (helper.ranked(1, 1000, 8), -3),
+            (helper.ranked(1, 1001, 0), -3), (helper.ranked(1, 1000, 0), -7), (helper.ranked(41, 1000, 0), -3),
+            (helper.simplest(1, 0, 8), -3), (helper.simplest(1, 0, 2), -7), (helper.numbered(8, [256]), -3),
+            (helper.numbered(0, [120, 256]), -1), (helper.numbered(0, "x"), -4), (helper.number(0), -6),
+            (helper.lengths(3, 37), -3), (helper.lengths(3, 1), -3), (helper.lengths(3, 2), -8), (helper.fewest(0, 5, 60), -3),
+            (helper.fewest(0, 4, 61), -3), (helper.fewest(0, 4, 0), -3), (helper.fewest(0, 0, 1), -6),
+            (helper.fewest(1, 0, 1), -7), (helper.rank(0, 41), -3), (helper.rank(0, 0), -3),
+        ):
+            self.assertEqual(helper.ask(*keep, call)[4], [refusal], call)
+
+
 def codes_behind(text, code):
     return helper.codes(text) + [code]
 
@@ -208,7 +275,15 @@ class NothingChanged(unittest.TestCase):
             (helper.div(0, 1, 0), -8), (helper.power(0, 2, 0), -8), (helper.power(4, 41, 4), -3),
             (helper.power(4, -1, 4), -3), (helper.convergents(5), -8), (helper.convergents(8), -3),
             (helper.best(4, 0, 4), -3), (helper.best(4, 501, 4), -3), (helper.best(4, 1, 8), -3), (helper.add(4, 4, 8), -3),
-            (helper.add(4, 8, 4), -3), (helper.add(8, 4, 4), -3),
+            (helper.add(4, 8, 4), -3), (helper.add(8, 4, 4), -3), (helper.records(5, 500), -8), (helper.records(4, 0), -3),
+            (helper.beside(0, 500), -8), (helper.beside(1, 500), -8), (helper.beside(4, 501), -3), (helper.rank(4, 41), -3),
+            (helper.ranked(40, 491, 4), -7), (helper.ranked(40, 490, 8), -3), (helper.simplest(4, 2, 4), -7),
+            (helper.simplest(0, 1, 0), -7), (helper.simplest(2, 4, 8), -3), (helper.numbered(4, ""), -4),
+            (helper.numbered(4, "01"), -4), (helper.numbered(4, "1" * 301), -4), (helper.numbered(4, [49, 256]), -1),
+            (helper.numbered(8, "1"), -3), (helper.number(3), -6), (helper.number(2), -6), (helper.number(7), -8),
+            (helper.number(0), -8), (helper.lengths(1, 2), -8), (helper.lengths(4, 37), -3), (helper.ends(8), -3),
+            (helper.fewest(2, 4, 60), -6), (helper.fewest(0, 4, 60), -7), (helper.fewest(6, 5, 60), -3), (helper.mediant(0, 4, 4), -8),
+            (helper.mediant(4, 4, 8), -3), (helper.floor(8), -3), (helper.floor(-1), -3),
         ]
         expected = [helper.done(helper.plain(value)) for value in values]
         for call, refusal in refused:
